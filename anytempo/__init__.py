@@ -1,0 +1,1 @@
+"""Anytempo: cues told by beats and by seconds, compared for every tempo map."""

@@ -1,0 +1,57 @@
+"""The interface: each name in the file under which it is listed, with its parameters; and the README's examples."""
+
+import doctest
+import importlib
+import inspect
+import pathlib
+import unittest
+
+SIGNATURES = {
+    "validation": {
+        "is_integer": "(value, low, high)", "is_name": "(value)", "is_unit": "(value)", "is_word": "(value)",
+        "other_unit": "(unit)", "turned": "(word)",
+    },
+    "amounts": {
+        "Amount": "(top, bottom=1)", "is_amount": "(value)", "amount_text": "(amount)", "amount_of": "(text)",
+        "total": "(*amounts)", "least": "(*amounts)", "greatest": "(*amounts)",
+    },
+}
+METHODS = {
+    "Amount": {
+        "divided": "(self, other)", "compare": "(self, other)", "__add__": "(self, other)",
+        "__sub__": "(self, other)", "__mul__": "(self, other)", "__neg__": "(self)", "__abs__": "(self)",
+        "__eq__": "(self, other)",
+    },
+}
+README = pathlib.Path(__file__).resolve().parent.parent / "README.md"
+
+
+class Interface(unittest.TestCase):
+    def test_names_stand_in_their_files(self):
+        for file, names in SIGNATURES.items():
+            module = importlib.import_module(f"anytempo.{file}")
+            for name, signature in names.items():
+                item = getattr(module, name)
+                self.assertEqual(item.__module__, f"anytempo.{file}", name)
+                self.assertEqual(str(inspect.signature(item)), signature, name)
+
+    def test_methods_stand_in_their_classes(self):
+        amounts = importlib.import_module("anytempo.amounts")
+        for name, methods in METHODS.items():
+            for method, signature in methods.items():
+                self.assertEqual(str(inspect.signature(vars(getattr(amounts, name))[method])), signature, method)
+
+    def test_exceptions_stand_in_their_file(self):
+        errors = importlib.import_module("anytempo.errors")
+        for item in vars(errors).values():
+            if inspect.isclass(item):
+                self.assertEqual(item.__module__, "anytempo.errors")
+
+    def test_examples_of_the_readme(self):
+        told = doctest.testfile(str(README), module_relative=False)
+        self.assertGreater(told.attempted, 0)
+        self.assertEqual(told.failed, 0)
+
+
+if __name__ == "__main__":
+    unittest.main()

@@ -1,0 +1,55 @@
+"""Values of every kind that the document's point 6 names, and ways to check what is raised."""
+
+from anytempo.amounts import Amount
+from anytempo.errors import CueError, InvalidName
+
+
+def any_values():
+    """New objects of every kind: none of them an integer, a string or an amount."""
+    return [
+        None,
+        True,
+        False,
+        [],
+        [1],
+        ["beats"],
+        (),
+        (1,),
+        (1, 2),
+        ("before",),
+        {},
+        {"a": 1},
+        {1: "beats", "b": [None, (True, {})]},
+        [[[[1]]]],
+        CueError("a"),
+        InvalidName("a"),
+    ]
+
+
+def strings():
+    """Strings of several forms, none of them a unit or a word."""
+    return ["", " ", "a", "1", "0", "-1", "1/2", "start", "beat", "BEATS", "Before", "before ", "\n", "a\nb", "x" * 100]
+
+
+def integers():
+    return [0, 1, -1, 2, 7, 10 ** 30, -(10 ** 30), 10 ** 59 + 1, 1 - 10 ** 60]
+
+
+def amounts():
+    return [Amount(0), Amount(1), Amount(1, 2), Amount(-7, 3), Amount(10 ** 29 + 1, 10 ** 30)]
+
+
+class Checks:
+    """Mixed into test cases."""
+
+    def raised(self, kind, call, *args, **more):
+        """The exception of exactly this class that a call raises."""
+        with self.assertRaises(kind) as caught:
+            call(*args, **more)
+        self.assertEqual(caught.exception.__class__, kind)
+        return caught.exception
+
+    def check_raises(self, kind, field, value, call, *args, **more):
+        """A call raises this class, and its field holds the very object."""
+        error = self.raised(kind, call, *args, **more)
+        self.assertIs(getattr(error, field), value)
