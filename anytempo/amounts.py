@@ -1,6 +1,6 @@
 """Amounts: exact fractions that never change."""
 
-from math import gcd
+from math import gcd, lcm
 
 from anytempo.errors import InvalidAmount, InvalidInteger, InvalidPart
 from anytempo.validation import DIGITS, has_only, is_integer, is_whole
@@ -155,3 +155,11 @@ def _furthest(amounts, side):
         if amount.compare(found) == side:
             found = amount
     return found
+
+
+def on_one_bottom(amounts):
+    """The tops that Amount objects have above one common bottom, and this bottom."""
+    bottom = 1
+    for amount in amounts:
+        bottom = lcm(bottom, amount.bottom)
+    return [amount.top * (bottom // amount.bottom) for amount in amounts], bottom

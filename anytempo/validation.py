@@ -15,6 +15,11 @@ def is_whole(value):
     return isinstance(value, int) and not isinstance(value, bool)
 
 
+def is_listing(value):
+    """Whether a value is a list or a tuple, each of which is accepted for the other one."""
+    return isinstance(value, (list, tuple))
+
+
 def is_integer(value, low, high):
     """Whether a value is an integer from low to high."""
     return is_whole(value) and low <= value <= high
@@ -42,10 +47,15 @@ def is_word(value):
     return isinstance(value, str) and value in WORDS
 
 
-def other_unit(unit):
-    """The unit that this one is not."""
+def check_unit(unit):
+    """Raises InvalidUnit for what is not a unit."""
     if not is_unit(unit):
         raise InvalidUnit(unit)
+
+
+def other_unit(unit):
+    """The unit that this one is not."""
+    check_unit(unit)
     return "seconds" if unit == "beats" else "beats"
 
 

@@ -15,12 +15,33 @@ SIGNATURES = {
         "Amount": "(top, bottom=1)", "is_amount": "(value)", "amount_text": "(amount)", "amount_of": "(text)",
         "total": "(*amounts)", "least": "(*amounts)", "greatest": "(*amounts)",
     },
+    "sheets": {"Sheet": "(cues)"},
+    "maps": {"TempoMap": "(points=())", "places": "(sheet, tempo)", "order_by": "(sheet, tempo)"},
+    "facts": {
+        "is_fact": "(value)", "holds": "(sheet, fact, tempo)", "broken": "(sheet, facts, tempo)",
+        "bound": "(sheet, unit, one, other, *, facts=())",
+    },
+    "orders": {
+        "is_order": "(sheet, value)", "order_map": "(sheet, order, *, facts=())",
+        "shows_ring": "(sheet, order, unit, steps, *, facts=())",
+    },
 }
 METHODS = {
-    "Amount": {
+    ("amounts", "Amount"): {
         "divided": "(self, other)", "compare": "(self, other)", "__add__": "(self, other)",
         "__sub__": "(self, other)", "__mul__": "(self, other)", "__neg__": "(self)", "__abs__": "(self)",
         "__eq__": "(self, other)",
+    },
+    ("sheets", "Sheet"): {
+        "names": "(self)", "cues": "(self)", "children": "(self, name)", "cue": "(self, name)", "__len__": "(self)",
+        "__contains__": "(self, value)", "__eq__": "(self, other)", "row": "(self, name)",
+        "between": "(self, one, other)", "same": "(self, one, other)", "moments": "(self)",
+        "names_at": "(self, number)", "moment": "(self, name)", "distance": "(self, unit, one, other)",
+        "line": "(self, unit, number)",
+    },
+    ("maps", "TempoMap"): {
+        "__call__": "(self, beat)", "beat_of": "(self, second)", "pace": "(self, beat)", "points": "(self)",
+        "inverse": "(self)", "then": "(self, other)", "__eq__": "(self, other)",
     },
 }
 README = pathlib.Path(__file__).resolve().parent.parent / "README.md"
@@ -36,10 +57,10 @@ class Interface(unittest.TestCase):
                 self.assertEqual(str(inspect.signature(item)), signature, name)
 
     def test_methods_stand_in_their_classes(self):
-        amounts = importlib.import_module("anytempo.amounts")
-        for name, methods in METHODS.items():
+        for (file, name), methods in METHODS.items():
+            kind = getattr(importlib.import_module(f"anytempo.{file}"), name)
             for method, signature in methods.items():
-                self.assertEqual(str(inspect.signature(vars(getattr(amounts, name))[method])), signature, method)
+                self.assertEqual(str(inspect.signature(vars(kind)[method])), signature, method)
 
     def test_exceptions_stand_in_their_file(self):
         errors = importlib.import_module("anytempo.errors")

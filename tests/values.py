@@ -2,6 +2,8 @@
 
 from anytempo.amounts import Amount
 from anytempo.errors import CueError, InvalidName
+from anytempo.maps import TempoMap
+from anytempo.sheets import Sheet
 
 
 def any_values():
@@ -23,7 +25,36 @@ def any_values():
         [[[[1]]]],
         CueError("a"),
         InvalidName("a"),
+        Sheet([]),
+        Sheet([("a", "start", "beats", 1)]),
+        TempoMap(),
+        TempoMap([(0, 0), (1, 2)]),
     ]
+
+
+def all_values():
+    """New objects of every kind, integers, strings and amounts among them."""
+    return any_values() + strings() + integers() + amounts()
+
+
+def values_without(*kinds):
+    """Values of every kind but these classes."""
+    return [value for value in all_values() if not isinstance(value, kinds)]
+
+
+def lists(value):
+    """A value with lists in place of all tuples."""
+    return [lists(item) for item in value] if isinstance(value, (list, tuple)) else value
+
+
+def tuples(value):
+    """A value with tuples in place of all lists."""
+    return tuple(tuples(item) for item in value) if isinstance(value, (list, tuple)) else value
+
+
+def sixty(seed):
+    """An amount with tops and bottoms of sixty digits, another one for each seed."""
+    return Amount(10 ** 59 + 7919 * seed * seed + 3 * seed + 1, 10 ** 60 - 1 - 104729 * seed)
 
 
 def strings():
@@ -53,3 +84,11 @@ class Checks:
         """A call raises this class, and its field holds the very object."""
         error = self.raised(kind, call, *args, **more)
         self.assertIs(getattr(error, field), value)
+
+    def check_turns(self, call, good, wrong):
+        """The first of several wrong arguments is told: wrong has (value, class, field, object) for each argument."""
+        for index in range(len(good)):
+            value, kind, field, told = wrong[index]
+            later = [item[0] for item in wrong[index + 1:]]
+            self.check_raises(kind, field, told, call, *good[:index], value, *good[index + 1:])
+            self.check_raises(kind, field, told, call, *good[:index], value, *later)
