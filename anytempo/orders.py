@@ -3,7 +3,7 @@
 from anytempo.errors import InvalidOrder
 from anytempo.facts import check_facts, names_of
 from anytempo.maps import TempoMap
-from anytempo.rings import is_ring, settled, shortest_ring, told_steps
+from anytempo.rings import MOST_STEPS, is_ring, settled, shortest_ring, told_steps, weighed
 from anytempo.sheets import check_sheet
 from anytempo.validation import UNITS, is_integer, is_listing, is_unit
 
@@ -28,7 +28,7 @@ def is_order(sheet, value):
 def order_map(sheet, order, *, facts=()):
     """A tempo map by which the sheet has an order and all facts hold, or what shows that there is none."""
     _check_order(sheet, order, facts)
-    ranks = _ranks(order)
+    ranks = group_indices(order)
     wrong = _wrong_fact(sheet, ranks, facts)
     if wrong is not None:
         return ("fact", wrong)
@@ -48,7 +48,8 @@ def shows_ring(sheet, order, unit, steps, *, facts=()):
     _check_order(sheet, order, facts)
     if not is_unit(unit):
         return False
-    return is_ring(steps, told_steps(sheet, unit, _relations(_ranks(order)), facts))
+    told = told_steps(sheet, unit, _relations(group_indices(order)), facts)
+    return is_ring(steps, weighed(told, MOST_STEPS)[0])
 
 
 def _check_order(sheet, order, facts):
@@ -58,7 +59,7 @@ def _check_order(sheet, order, facts):
     check_facts(sheet, facts)
 
 
-def _ranks(order):
+def group_indices(order):
     """For each moment the index of its group."""
     found = {}
     for index, group in enumerate(order):

@@ -59,10 +59,15 @@ def other_unit(unit):
     return "seconds" if unit == "beats" else "beats"
 
 
-def turned(word):
-    """The word that is right when the two moments are exchanged."""
+def check_word(word):
+    """Raises InvalidWord for what is not a word."""
     if not is_word(word):
         raise InvalidWord(word)
+
+
+def turned(word):
+    """The word that is right when the two moments are exchanged."""
+    check_word(word)
     if word == "before":
         return "after"
     if word == "after":

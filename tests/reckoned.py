@@ -226,6 +226,27 @@ class Dealer:
         high = low + Amount(self.dice.randint(0, 6), self.dice.randint(1, 3))
         return (kind, unit, one, other, self.dice.choice([low, low, None]), self.dice.choice([high, high, None]))
 
+    def near(self, cues, count):
+        """Facts that set small limits to few pairs of cues, so that some of them contradict each other."""
+        names = ["start", *[cue[0] for cue in cues]]
+        found = []
+        while len(found) < count:
+            one, other = self.dice.sample(names, 2)
+            limit = Amount(self.dice.randint(-3, 3), self.dice.choice([1, 1, 2]))
+            ends = self.dice.choice([(limit, None), (None, limit)])
+            found.append(("between", self.dice.choice(UNITS), one, other, *ends))
+        return found
+
+    def rigid(self, cues, count):
+        """Facts that tell of cues by the other unit, too, how far they lie from their parents."""
+        told = [cue for cue in cues if cue[3] != Amount(0)]
+        found = []
+        for name, parent, unit, amount in self.dice.sample(told, min(count, len(told))):
+            length = Amount(self.dice.randint(1, 4), self.dice.choice([1, 1, 2]))
+            other = "beats" if unit == "seconds" else "seconds"
+            found.append(("apart", other, parent, name, length if amount.top > 0 else -length))
+        return found
+
     def order(self, count):
         return self.dice.choice(all_orders(count)) if count < 6 else self.long_order(count)
 
@@ -237,3 +258,117 @@ class Dealer:
             else:
                 order.insert(self.dice.randint(0, len(order)), [number])
         return order
+
+
+def tree_says(cues, unit, step, facts, assumed):
+    """The amount that a step in a tree says, and whether it is strict; None if it is not right for what is assumed."""
+    kind, one, other = step
+    moments = moments_of(cues)
+    if kind == "shift":
+        amount = distance_of(unit, moments[one], moments[other])
+        return None if amount is None else (amount, False)
+    if kind == "fact":
+        return bound_of(cues, unit, one, other, facts)
+    if kind == "later":
+        gaps = [distance_of(each, moments[one], moments[other]) for each in UNITS]
+        told = (one, "before", other) in assumed or (other, "after", one) in assumed
+        return (Fraction(0), True) if told or any(gap is not None and gap > 0 for gap in gaps) else None
+    if kind == "same":
+        told = (one, "same", other) in assumed or (other, "same", one) in assumed
+        return (Fraction(0), False) if told else None
+    return None
+
+
+def is_number(value, low, high):
+    return value.__class__ is int and low <= value <= high
+
+
+def ring_contradicts(cues, row, facts, assumed):
+    """Whether a row is a ring of steps that are right for what is assumed."""
+    _, unit, steps = row
+    count = len(moments_of(cues))
+    if unit not in UNITS or steps.__class__ is not list or not 1 <= len(steps) <= 40:
+        return False
+    for step in steps:
+        if step.__class__ is not tuple or len(step) != 3 or step[0].__class__ is not str:
+            return False
+        if not all(is_number(number, 0, count - 1) for number in step[1:]):
+            return False
+    if any(step[2] != following[1] for step, following in zip(steps, steps[1:] + steps[:1])):
+        return False
+    said = [tree_says(cues, unit, step, facts, assumed) for step in steps]
+    if None in said:
+        return False
+    amount = sum(item[0] for item in said)
+    return amount > 0 or (amount == 0 and any(item[1] for item in said))
+
+
+def tree_contradicts(cues, facts, words, rows):
+    """Whether a value is a tree by which words (one, word, other) of moments contradict facts, walked from row 0 on."""
+    if rows.__class__ is not list or not rows:
+        return False
+    moments, names = moments_of(cues), rows_of(cues)
+    told = [(moments.index(names[fact[1]]), fact[2], moments.index(names[fact[3]]))
+            for fact in facts if fact[0] == "order"]
+    seen = []
+
+    def walk(index, assumed):
+        row = rows[index]
+        seen.append(index)
+        if row.__class__ is not tuple or len(row) not in (3, 6):
+            return False
+        if len(row) == 3:
+            return row[0] == "ring" and ring_contradicts(cues, row, facts, assumed)
+        word, one, other, *below = row
+        if word != "case" or not all(is_number(number, 0, len(moments) - 1) for number in (one, other)):
+            return False
+        if one == other or not all(is_number(number, index + 1, len(rows) - 1) for number in below):
+            return False
+        return all(walk(number, assumed + [(one, case, other)]) for case, number in zip(WORDS, below))
+
+    return walk(0, words + told) and sorted(seen) == list(range(len(rows)))
+
+
+def words_in(order):
+    """How each moment lies with regard to each other one in an order."""
+    groups = {number: index for index, group in enumerate(order) for number in group}
+    return {(one, other): WORDS[1 + (groups[one] > groups[other]) - (groups[one] < groups[other])]
+            for one in groups for other in groups}
+
+
+def heaviest(cues, order, facts, unit):
+    """For two moments how far, at least, one lies behind another by all steps that are right for an order."""
+    moments = moments_of(cues)
+    said = {}
+
+    def take(one, other, amount, strict):
+        said[(one, other)] = max(said.get((one, other), (amount, strict)), (amount, strict))
+
+    for one in range(len(moments)):
+        for other in range(len(moments)):
+            for kind in ["shift", "fact", "later", "same"]:
+                told = step_says(cues, order, unit, (kind, one, other), facts)
+                if told is not None:
+                    take(one, other, *told)
+    for middle in range(len(moments)):
+        for one, end in list(said):
+            for begin, other in list(said):
+                if end == begin == middle:
+                    first, second = said[(one, middle)], said[(middle, other)]
+                    take(one, other, first[0] + second[0], first[1] or second[1])
+    return said
+
+
+def span_of(said, one, other):
+    """The span of the amounts from one moment to another one: one value, or all between two ends."""
+    low, high = said.get((one, other)), said.get((other, one))
+    return (low and low[0], high and -high[0])
+
+
+def is_within(spans, value):
+    """Whether a value lies in one of the spans."""
+    for low, high in spans:
+        single = low is not None and low == high
+        if value == low if single else (low is None or low < value) and (high is None or value < high):
+            return True
+    return False

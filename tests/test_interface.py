@@ -25,6 +25,21 @@ SIGNATURES = {
         "is_order": "(sheet, value)", "order_map": "(sheet, order, *, facts=())",
         "shows_ring": "(sheet, order, unit, steps, *, facts=())",
     },
+    "relations": {
+        "possible": "(sheet, one, other, *, facts=())", "why": "(sheet, one, word, other, *, facts=())",
+        "shows_tree": "(sheet, one, word, other, rows, *, facts=())", "meets": "(sheet, facts)",
+        "shows_conflict": "(sheet, facts, rows)", "conflict": "(sheet, facts)",
+    },
+    "allorders": {
+        "orders": "(sheet, *, facts=())", "order_list": "(sheet, *, facts=(), most=20)",
+        "order_count": "(sheet, *, facts=(), most=20)", "ranks": "(sheet, cue, *, facts=())",
+        "can_be_first": "(sheet, *, facts=())", "can_be_last": "(sheet, *, facts=())",
+        "sure_words": "(sheet, *, facts=())",
+    },
+    "ranges": {
+        "ranges": "(sheet, unit, one, other, *, facts=())", "hull": "(sheet, unit, one, other, *, facts=())",
+        "map_with": "(sheet, unit, one, other, amount, *, facts=())",
+    },
 }
 METHODS = {
     ("amounts", "Amount"): {
