@@ -11,10 +11,10 @@ SIDES = {"before": -1, "same": 0, "after": 1}
 
 def is_fact(value):
     """Whether a value is a tuple of the form of a fact, whatever its names are."""
-    return isinstance(value, tuple) and _has_form(value)
+    return isinstance(value, tuple) and has_form(value)
 
 
-def _has_form(value):
+def has_form(value):
     """Whether a list or tuple has the items of a fact, whatever its names are."""
     if len(value) == 4:
         return value[0] == "order" and is_word(value[2])
@@ -37,7 +37,7 @@ def names_of(fact):
 
 def check_fact(sheet, fact):
     """Raises what is wrong with a fact about a sheet."""
-    if not is_listing(fact) or not _has_form(fact):
+    if not is_listing(fact) or not has_form(fact):
         raise InvalidFact(fact)
     for name in names_of(fact):
         check_known(sheet, name)

@@ -19,7 +19,9 @@ def ranges(sheet, unit, one, other, *, facts=()):
     _check_cues(sheet, unit, one, other)
     check_facts(sheet, facts)
     nets = first_nets(sheet, facts)
-    first = nets[:1]
+    if len(nets) == 0:
+        return []
+    first = nets[0]
     spans = []
     while len(nets) > 0:
         net = nets.pop()
@@ -28,10 +30,10 @@ def ranges(sheet, unit, one, other, *, facts=()):
             continue
         pair = net.open_pair()
         if pair is None:
-            spans = _united(spans + [span])
+            spans = united(spans + [span])
         else:
             nets.extend(net.below(pair))
-    return [tuple([net.amount(unit, end) for end in span]) for net in first for span in spans]
+    return [(first.amount(unit, low), first.amount(unit, high)) for low, high in spans]
 
 
 def map_with(sheet, unit, one, other, amount, *, facts=()):
@@ -77,7 +79,7 @@ def _contains(span, other):
     return low_fits and (high is None or (other[1] is not None and other[1] <= high))
 
 
-def _united(spans):
+def united(spans):
     """The largest intervals that the values of spans make up, and the single values that lie in none of them."""
     found = []
     for span in sorted(spans, key=_beginning):

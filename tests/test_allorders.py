@@ -110,7 +110,8 @@ class Answers(Checks, unittest.TestCase):
 
     def test_sheets_without_cues(self):
         self.check_all([], [], [[[0]]])
-        self.assertEqual([order_list(Sheet([])), order_count(Sheet([]), most=1), sure_words(Sheet([]))], [[[[0]]], 1, []])
+        self.assertEqual([order_list(Sheet([])), order_count(Sheet([]), most=1), sure_words(Sheet([]))],
+                         [[[[0]]], 1, []])
         self.assertEqual([can_be_first(Sheet([])), can_be_last(Sheet([]))], [[], []])
 
     def test_the_start_is_no_cue(self):
@@ -186,7 +187,8 @@ class Limits(Checks, unittest.TestCase):
         near = Amount(1, 10 ** 60 - 1)
         cues = [("a", "start", "beats", sixty(1)), ("b", "a", "seconds", -sixty(2)), ("c", "b", "beats", sixty(3)),
                 ("d", "c", "seconds", sixty(4)), ("e", "d", "beats", -sixty(5)), ("f", "e", "seconds", sixty(6)),
-                ("g", "f", "beats", sixty(7)), ("h", "g", "beats", -sixty(7)), ("i", "h", "beats", 0), ("j", "i", "beats", 0)]
+                ("g", "f", "beats", sixty(7)), ("h", "g", "beats", -sixty(7)), ("i", "h", "beats", 0),
+                ("j", "i", "beats", 0)]
         sheet = Sheet(cues)
         told = order_list(sheet, most=20000)
         self.assertGreater(len(told), 100)
@@ -205,10 +207,12 @@ class Passed(Checks, unittest.TestCase):
         """All functions of a sheet and facts."""
         return [lambda sheet, facts: next(orders(sheet, facts=facts), None),
                 lambda sheet, facts: list(orders(facts=facts, sheet=sheet)),
-                lambda sheet, facts: order_list(sheet, facts=facts), lambda sheet, facts: order_count(sheet, facts=facts),
+                lambda sheet, facts: order_list(sheet, facts=facts), lambda sheet,
+                facts: order_count(sheet, facts=facts),
                 lambda sheet, facts: order_list(sheet, facts=facts, most=None) if sheet.__class__ is not Sheet else
                 order_list(sheet, facts=facts), lambda sheet, facts: can_be_first(sheet, facts=facts),
-                lambda sheet, facts: can_be_last(sheet, facts=facts), lambda sheet, facts: sure_words(sheet, facts=facts),
+                lambda sheet, facts: can_be_last(sheet, facts=facts), lambda sheet,
+                facts: sure_words(sheet, facts=facts),
                 lambda sheet, facts: ranks(sheet, "a", facts=facts)]
 
     def test_first_wrong_argument(self):
@@ -263,7 +267,8 @@ class Passed(Checks, unittest.TestCase):
             self.assertEqual(order_count(most=20000, facts=facts, sheet=sheet), 1)
             self.assertEqual(list(orders(sheet=sheet, facts=facts)), [[[0], [1], [2]]])
             self.assertEqual(ranks(cue="b", facts=facts, sheet=sheet), [2])
-            self.assertEqual([can_be_first(facts=facts, sheet=sheet), can_be_last(facts=facts, sheet=sheet)], [["a"], ["b"]])
+            self.assertEqual([can_be_first(facts=facts, sheet=sheet), can_be_last(facts=facts, sheet=sheet)],
+                             [["a"], ["b"]])
             self.assertEqual(sure_words(facts=facts, sheet=sheet), [("a", "before", "b")])
         for call in [lambda: order_list(sheet, []), lambda: ranks(sheet, "a", []), lambda: orders(sheet, []),
                      lambda: sure_words(sheet, [])]:
@@ -272,7 +277,8 @@ class Passed(Checks, unittest.TestCase):
 
     def test_arguments_stay_and_results_are_new(self):
         sheet, facts = Sheet(CUES), lists(FACTS)
-        for call in [order_list, can_be_first, can_be_last, sure_words, lambda sheet, facts: ranks(sheet, "b", facts=facts),
+        for call in [order_list, can_be_first, can_be_last, sure_words, lambda sheet,
+                     facts: ranks(sheet, "b", facts=facts),
                      lambda sheet, facts: list(orders(sheet, facts=facts))]:
             told = call(sheet, facts=facts)
             kept = copy.deepcopy(told)

@@ -334,9 +334,30 @@ class Expressions(unittest.TestCase):
             self.assertTrue(all(item.arg for item in node.keywords), place)
 
     def test_lambdas(self):
-        """L13."""
+        """L4, L13."""
         places = [place for _, place in nodes(ast.Lambda)]
         self.assertEqual(len(places), len(set(places)))
+        for node, place in nodes(ast.Lambda):
+            self.assertEqual([node.args.defaults, node.args.posonlyargs], [[], []], place)
+
+    def test_texts_with_braces(self):
+        """L7, L27: within the braces stand no strings, and no format is told."""
+        for node, place in nodes(ast.FormattedValue):
+            self.assertIsNone(node.format_spec, place)
+            self.assertFalse([item for item in within(node, ast.Constant) if isinstance(item.value, str)], place)
+            self.assertIn(node.conversion, [-1, ord("r"), ord("s")], place)
+
+    def test_what_tables_hold_is_called_by_a_name(self):
+        """L3, L7."""
+        for node, place in nodes(ast.Call):
+            self.assertIsInstance(node.func, (ast.Name, ast.Attribute), place)
+
+    def test_nothing_is_divided_into_floats_and_no_star_stands_in_a_set(self):
+        """L7."""
+        for node, place in nodes(ast.Starred):
+            self.assertIsInstance(PARENTS[node], (ast.Call, ast.Tuple, ast.List, ast.Assign), place)
+        for node, place in nodes(ast.Dict):
+            self.assertNotIn(None, node.keys, place)
 
     def test_only_builtins_of_the_language(self):
         """L8, L22."""
@@ -435,6 +456,20 @@ class Iterating(unittest.TestCase):
             if node.id in names:
                 passed_on = isinstance(PARENTS[PARENTS[node]], ast.YieldFrom)
                 self.assertTrue(passed_on or self.is_iterated(PARENTS[node]), place)
+
+    def test_what_generators_are_made_of(self):
+        """L23."""
+        made = [(node, place) for node, place in nodes(ast.FunctionDef) if within(node, ast.Yield, ast.YieldFrom)]
+        names = [node.name for node, _ in nodes(ast.FunctionDef)]
+        for node, place in made:
+            self.assertEqual(names.count(node.name), 1, place)
+            self.assertFalse(node.name in METHODS or node.decorator_list or node.name.startswith("__"), place)
+            self.assertEqual(within(node, ast.Try, ast.With), [], place)
+            self.assertEqual([item.value for item in within(node, ast.Return) if item.value], [], place)
+            for item in within(node, ast.Yield, ast.YieldFrom):
+                self.assertIsInstance(PARENTS[item], ast.Expr, place)
+            for other, _ in nodes(ast.FunctionDef):
+                self.assertFalse(other is not node and node.name in bound_in(other), place)
 
     def test_sets(self):
         """L24."""

@@ -40,6 +40,23 @@ SIGNATURES = {
         "ranges": "(sheet, unit, one, other, *, facts=())", "hull": "(sheet, unit, one, other, *, facts=())",
         "map_with": "(sheet, unit, one, other, amount, *, facts=())",
     },
+    "clips": {
+        "can_meet": "(sheet, clips, *, facts=())", "must_meet": "(sheet, clips, *, facts=())",
+        "meeting": "(sheet, clips, *, facts=())", "most_at_once": "(sheet, clips, *, facts=())",
+        "lanes": "(sheet, clips, *, facts=())", "fits": "(sheet, clips, dealt, *, facts=())",
+    },
+    "edits": {
+        "is_alike": "(one, other)", "unlike": "(one, other)", "inserted": "(sheet, name, parent, unit, amount)",
+        "dropped": "(sheet, name)", "renamed": "(sheet, name, new)", "nudged": "(sheet, name, unit, amount)",
+        "hung": "(sheet, name, parent)", "exchanged": "(sheet)", "reversed_sheet": "(sheet)",
+        "stretched": "(sheet, unit, by)", "attached": "(sheet, other, at, prefix)",
+    },
+    "texts": {
+        "sheet_text": "(sheet)", "sheet_of": "(text)", "fact_text": "(fact)", "fact_of": "(text)",
+        "map_text": "(tempo)",
+        "map_of": "(text)", "order_text": "(sheet, order)",
+    },
+    "session": {"Session": "(sheet)"},
 }
 METHODS = {
     ("amounts", "Amount"): {
@@ -57,6 +74,10 @@ METHODS = {
     ("maps", "TempoMap"): {
         "__call__": "(self, beat)", "beat_of": "(self, second)", "pace": "(self, beat)", "points": "(self)",
         "inverse": "(self)", "then": "(self, other)", "__eq__": "(self, other)",
+    },
+    ("session", "Session"): {
+        "sheet": "(self)", "facts": "(self)", "done": "(self)", "__len__": "(self)", "say": "(self, line)",
+        "say_all": "(self, lines)",
     },
 }
 README = pathlib.Path(__file__).resolve().parent.parent / "README.md"

@@ -9,7 +9,7 @@ from anytempo.errors import InvalidAmount, InvalidFact, InvalidPart, InvalidShee
 from anytempo.facts import broken
 from anytempo.maps import TempoMap, places
 from anytempo.orders import order_map
-from anytempo.ranges import hull, map_with, ranges
+from anytempo.ranges import hull, map_with, ranges, united
 from anytempo.sheets import Sheet
 from hard import HARD, MANY
 from reckoned import (
@@ -92,7 +92,8 @@ class Answers(Told, unittest.TestCase):
         sheet = Sheet(CUES)
         self.assertEqual(texts(ranges(sheet, "seconds", "a", "b")), [(None, "3")])
         facts = [("order", "c", "same", "start")]
-        self.assertEqual([len(ranges(sheet, "beats", "a", "b", facts=facts)), len(ranges(sheet, "beats", "b", "c"))], [1, 1])
+        self.assertEqual([len(ranges(sheet, "beats", "a", "b", facts=facts)), len(ranges(sheet, "beats", "b", "c"))],
+                         [1, 1])
 
     def test_small_sheets(self):
         dealer = Dealer(81)
@@ -251,7 +252,8 @@ class Limits(Told, unittest.TestCase):
         cues = [("a", "start", "beats", sixty(1)), ("b", "a", "seconds", -sixty(2)), ("c", "b", "beats", sixty(3)),
                 ("d", "c", "seconds", sixty(4)), ("e", "d", "beats", -sixty(5)), ("f", "e", "seconds", sixty(6)),
                 ("g", "f", "beats", sixty(7))]
-        facts = [("between", "beats", "b", "d", None, sixty(3) + near), ("between", "seconds", "start", "f", sixty(9), None)]
+        facts = [("between", "beats", "b", "d", None, sixty(3) + near),
+                 ("between", "seconds", "start", "f", sixty(9), None)]
         for one, other in [("start", "g"), ("c", "d"), ("b", "f"), ("d", "e")]:
             for unit in UNITS:
                 found = self.told(cues, unit, one, other, facts)
@@ -260,13 +262,50 @@ class Limits(Told, unittest.TestCase):
         self.assertEqual(self.told(cues, "beats", "c", "d", facts), [(0, fraction(near))])
 
 
+class United(unittest.TestCase):
+    """Point 81: the largest intervals, and the single values that lie in none of them."""
+
+    def test_spans(self):
+        for spans, expected in [
+                ([], []), ([(1, 3), (3, 3)], [(1, 3), (3, 3)]), ([(3, 3), (3, 5)], [(3, 3), (3, 5)]),
+                ([(1, 3), (3, 5)], [(1, 3), (3, 5)]), ([(3, 5), (3, 3), (1, 3)], [(1, 5)]),
+                ([(2, 4), (1, 3), (3, 3)], [(1, 4)]), ([(None, 2), (2, 2), (2, None)], [(None, None)]),
+                ([(1, 1), (1, 1)], [(1, 1)]), ([(1, 1), (2, 2), (1, 2)], [(1, 1), (1, 2), (2, 2)]),
+                ([(1, 1), (3, 3), (3, 4)], [(1, 1), (3, 3), (3, 4)]), ([(1, 9), (2, 3), (4, 4)], [(1, 9)]),
+                ([(None, None), (0, 0)], [(None, None)]), ([(None, 1), (None, 3)], [(None, 3)])]:
+            for each in [spans, spans[::-1]]:
+                self.assertEqual(united(each), expected)
+
+    def test_drawn_spans(self):
+        dice = Dealer(84).dice
+        for _ in range(2000):
+            spans = []
+            for _ in range(dice.randint(0, 6)):
+                low = dice.randint(-4, 4)
+                high = low + dice.randint(0, 4)
+                spans.append((low if low == high or dice.random() < 0.9 else None,
+                              high if low == high or dice.random() < 0.9 else None))
+            found = united(spans)
+            values = [Fraction(number, 2) for number in range(-20, 30)]
+            for value in values:
+                self.assertEqual(is_within(found, value), is_within(spans, value), spans)
+                # No value lies in two of them, and one with all values around it lies in an interval.
+                self.assertLess(sum(is_within([span], value) for span in found), 2, found)
+                around = [value - Fraction(1, 3), value, value + Fraction(1, 3)]
+                if all(is_within(spans, each) for each in around):
+                    self.assertTrue(any(not is_single(span) and is_within([span], value) for span in found), found)
+            order = [(-99 if low is None else low, not is_single((low, high))) for low, high in found]
+            self.assertEqual(order, sorted(set(order)))
+
+
 class Passed(Checks, unittest.TestCase):
     """Points 7, 8, 9 and 81 to 83."""
 
     def test_first_wrong_argument(self):
         sheet, unit, one, other, amount = ["sheet"], "Beats", ["one"], ("other",), "1"
         facts, item, unknown = {"no": "list"}, ["no", "fact"], ["no name"]
-        start = [(sheet, InvalidSheet, "value", sheet), (unit, InvalidUnit, "value", unit), (one, UnknownCue, "label", one),
+        start = [(sheet, InvalidSheet, "value", sheet), (unit, InvalidUnit, "value", unit),
+                 (one, UnknownCue, "label", one),
                  (other, UnknownCue, "label", other)]
         for last in [(facts, InvalidPart, "value", facts), ([item], InvalidFact, "value", item),
                      ([("order", unknown, "same", "x"), item], UnknownCue, "label", unknown)]:

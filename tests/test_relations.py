@@ -293,8 +293,10 @@ class Trees(Evidence, unittest.TestCase):
         """Cues, facts, words and the rows of a tree for each of several contradictions."""
         found = [(CUES, CROSSED, [], meets(Sheet(CUES), CROSSED)[1])]
         found.append((CUES, [], [("c", "before", "start")], why(Sheet(CUES), "c", "before", "start")[1]))
-        found.append((CUES, CROSSED[:1], [("c", "same", "a")], why(Sheet(CUES), "c", "same", "a", facts=CROSSED[:1])[1]))
-        found.append((CUES, FACTS[1:2], [("a", "after", "c")], why(Sheet(CUES), "a", "after", "c", facts=FACTS[1:2])[1]))
+        found.append((CUES, CROSSED[:1], [("c", "same", "a")],
+                      why(Sheet(CUES), "c", "same", "a", facts=CROSSED[:1])[1]))
+        found.append((CUES, FACTS[1:2], [("a", "after", "c")],
+                      why(Sheet(CUES), "a", "after", "c", facts=FACTS[1:2])[1]))
         found = found + [(cues, facts, [], meets(Sheet(cues), facts)[1]) for cues, facts in HARD]
         self.assertTrue(all(self.both(*told) for told in found))
         return found
@@ -357,10 +359,12 @@ class Trees(Evidence, unittest.TestCase):
                          ("ring", unit, steps[::-1]), ("ring", unit, steps * 5)]
                 for place, (kind, one, two) in enumerate(steps):
                     before, behind = steps[:place], steps[place + 1:]
-                    steppings = [(kind, two, one), (kind, one, one), (kind, one, 7 - two), (kind, one, 8), (kind, -1, two),
+                    steppings = [(kind, two, one), (kind, one, one), (kind, one, 7 - two), (kind, one, 8),
+                                 (kind, -1, two),
                                  (kind, one), (one, two), (kind, one, two, 0), [kind, one, two], ("before", one, two)]
                     steppings = steppings + [(each, one, two) for each in ["shift", "fact", "later", "same"]]
-                    rings = rings + [("ring", unit, before + behind), ("ring", unit, before + [steps[place]] + steps[place:])]
+                    rings = rings + [("ring", unit, before + behind),
+                                     ("ring", unit, before + [steps[place]] + steps[place:])]
                     rings = rings + [("ring", unit, before + [step] + behind) for step in steppings]
                     rings.append(("ring", unit, steps[place:] + before))
                 told = [self.both(cues, facts, words, rows[:index] + [ring] + rows[index + 1:]) for ring in rings]
@@ -430,6 +434,25 @@ class Trees(Evidence, unittest.TestCase):
         deep = [("case", 0, 1, 1, 2, 3), ("case", 0, 2, 4, 5, 6), ("ring", "beats", [("same", 0, 1), ("shift", 1, 0)])]
         self.assertIs(self.both(cues, [], [], deep), False)
 
+    def test_cases_that_no_ring_needs(self):
+        cues = [("a", "start", "beats", 1), ("b", "start", "seconds", 1)]
+        facts = [("between", "beats", "a", "start", 0, None)]
+        ring = ("ring", "beats", [("shift", 0, 1), ("fact", 1, 0)])
+        for rows, expected in [
+                ([("case", 0, 2, 1, 2, 3), ring, ring, ring], True), ([("case", 2, 0, 3, 1, 2), ring, ring, ring], True),
+                ([("case", 0, 3, 1, 2, 3), ring, ring, ring], False), ([("case", 3, 0, 1, 2, 3), ring, ring, ring], False),
+                ([("case", -1, 2, 1, 2, 3), ring, ring, ring], False), ([("case", 0, 4, 1, 2, 3), ring, ring, ring], False),
+                ([("case", 1, 1, 1, 2, 3), ring, ring, ring], False), ([("case", 0, 2, 1, 1, 1), ring], False),
+                ([("case", 0, 2, 1, 2, 2), ring, ring], False), ([("case", 0, 2, 1, 2, 4), ring, ring, ring], False),
+                ([("case", 0, 2, 0, 1, 2), ring, ring], False),
+                # Two cases name the same row.
+                ([("case", 0, 2, 1, 2, 3), ("case", 0, 1, 2, 3, 4), ring, ring, ring], False),
+                ([("case", 0, 2, 1, 2, 3), ("case", 0, 1, 4, 5, 6), ring, ring, ring, ring, ring], True),
+                ([("case", 0, 2, 1, 2, 3), ("case", 0, 1, 4, 5, 3), ring, ring, ring, ring], False),
+                ([("case", 0, 2, 3, 2, 1), ring, ring, ("case", 0, 1, 4, 5, 6), ring, ring, ring], True),
+                ([("case", 0, 2, 3, 2, 1), ring, ring, ("case", 0, 1, 2, 5, 4), ring, ring], False)]:
+            self.assertIs(self.both(cues, facts, [], rows), expected, rows)
+
     def test_deep_trees(self):
         cues = [("a", "start", "beats", 1), ("b", "start", "seconds", 1)]
         facts = [("between", "beats", "a", "start", 0, None)]
@@ -446,9 +469,11 @@ class Trees(Evidence, unittest.TestCase):
         sheet = Sheet(CUES)
         good = why(sheet, "start", "after", "c")[1]
         for value in all_values():
-            for rows in [value, [value], [*good, value], [value, *good], [("ring", value, value)], [("ring", "beats", value)],
+            for rows in [value, [value], [*good, value], [value, *good], [("ring", value, value)],
+                         [("ring", "beats", value)],
                          [("ring", "beats", [value])], [("ring", value, good[0][2])], [(value, "beats", good[0][2])],
-                         [("case", value, value, value, value, value)], [("case", 0, 1, value, value, value), *good * 3],
+                         [("case", value, value, value, value, value)],
+                         [("case", 0, 1, value, value, value), *good * 3],
                          [("case", 0, value, 1, 2, 3), *good * 3]]:
                 expected = rows == [("case", 0, 2, 1, 2, 3), *good * 3] or rows == [("case", 0, 1, 1, 2, 3), *good * 3]
                 expected = expected and value.__class__ is int
@@ -513,7 +538,8 @@ class Passed(Checks, unittest.TestCase):
             self.assertEqual(conflict(facts=facts, sheet=other), [0, 1])
             self.assertEqual(possible(other=("a"), one="c", sheet=sheet, facts=facts[:1]), ["after"])
             told = why(facts=facts[:1], word="same", other="a", one="c", sheet=other)
-            self.assertIs(shows_tree(facts=CROSSED[:1], rows=told[1], word="same", other="a", one="c", sheet=sheet), True)
+            self.assertIs(shows_tree(facts=CROSSED[:1], rows=told[1], word="same", other="a", one="c", sheet=sheet),
+                          True)
         for call in [lambda: possible(sheet, "a", "b", []), lambda: why(sheet, "a", "same", "b", []),
                      lambda: shows_tree(sheet, "a", "same", "b", [], [])]:
             with self.assertRaises(TypeError):
